@@ -1,0 +1,1 @@
+"""Pictures made of smaller copies of themselves."""
