@@ -1,8 +1,9 @@
 """Kits (table, states): what they are, how far they reach, and the kits that are made of them."""
 
 from selfkits.errors import InvalidKit, InvalidPair, InvalidPower, InvalidState, NoMeeting
-from selfkits.shapes import is_integer, is_offset, is_pair, is_place
-from selfkits.tables import check_offset, determinant, is_growing, power, product, times
+from selfkits.graphs import graph_from, lasting
+from selfkits.shapes import is_ascending, is_integer, is_offset, is_pair, is_place
+from selfkits.tables import check_offset, inverse, is_growing, power, product, size, times
 
 
 def is_kit(told):
@@ -62,11 +63,11 @@ def met(kit, k, l, offset):
     check_state(kit, l)
     check_offset(offset)
     start = (k, l, offset)
-    graph = graph_of(kit, kit, start, near(kit, kit))
-    places = {triple: at for at, triple in enumerate(lasting(graph))}
-    if start not in places:
+    lasts = lasting(graph_of(kit, kit, [start], near(kit, kit)))
+    if start not in lasts:
         raise NoMeeting(start)
-    return (kit[0], tuple([_met_copies(graph[triple], places) for triple in places]))
+    places = {triple: at for at, triple in enumerate(lasts)}
+    return (kit[0], tuple([_met_copies(kit, triple, lasts[triple], places) for triple in lasts]))
 
 
 def near(one, other):
@@ -76,63 +77,54 @@ def near(one, other):
     point is of steps. Both numbers are at most both reaches together, and mostly leave out far more triples.
     """
     far = _bound(one[0], max(_gap((1, 0), one, other), _gap((0, 1), one, other)))
-    undoing, scale = _undoing(one[0])
+    undoing, scale = inverse(one[0])
     here, bottom = undoing, scale
     wide, high = _gap(here[0], one, other), _gap(here[1], one, other)
     # All that later steps add is at most the size of this power times the bound of the whole.
-    while _size(here) * far >= bottom:
+    while size(here) * far >= bottom:
         here, bottom = product(here, undoing), bottom * scale
         wide = wide * scale + _gap(here[0], one, other)
         high = high * scale + _gap(here[1], one, other)
-    rest = _size(here) * far
+    rest = size(here) * far
     most = reach(one) + reach(other)
     return (min(most, (wide + rest) // bottom), min(most, (high + rest) // bottom))
 
 
-def graph_of(one, other, start, bounds):
-    """Return the dict of a triple and all to which next ones lead, breadth first, with their next ones.
+def graph_of(one, other, starts, bounds):
+    """Return the graph of some triples and all to which next ones lead, breadth first.
 
-    Triples are those with offsets within the bounds (wide, high); it is empty if start is none.
+    Triples are those with offsets within the bounds; others of the starts are left out.
     """
-    graph = {}
-    x, y = start[2]
-    row = [start] if abs(x) <= bounds[0] and abs(y) <= bounds[1] else []
-    while len(row) > 0:
-        for triple in row:
-            graph[triple] = next_ones(one, other, triple, bounds)
-        row = _unseen(graph, row)
-    return graph
+    row = [triple for triple in starts if is_within(triple[2], bounds)]
+    return graph_from(row, lambda triple: next_ones(one, other, triple, bounds))
+
+
+def is_within(offset, bounds):
+    """Tell whether the absolute values of an offset are not beyond the bounds (wide, high)."""
+    return abs(offset[0]) <= bounds[0] and abs(offset[1]) <= bounds[1]
 
 
 def next_ones(one, other, triple, bounds):
-    """Return the ascending list of (next triple, step of the one's copy) of a triple."""
-    k, l, offset = triple
+    """Return the ascending list of (next triple, both copies' places) of a triple."""
+    k, l, (p, q) = triple
     wide, high = bounds
-    x, y = times(one[0], offset)
+    (a, b), (c, d) = one[0]
+    x, y = a * p + b * q, c * p + d * q
     found = []
-    for step, i in one[1][k]:
+    row = other[1][l]
+    # Copies ascend, so those of the other one that come near move on from copy to copy of the one.
+    first = 0
+    for place, (step, i) in enumerate(one[1][k]):
         left, low = x - step[0], y - step[1]
-        for (p, q), j in other[1][l]:
-            if -wide <= left + p <= wide and -high <= low + q <= high:
-                found.append(((i, j, (left + p, low + q)), step))
+        while first < len(row) and left + row[first][0][0] < -wide:
+            first += 1
+        for at in range(first, len(row)):
+            (p, q), j = row[at]
+            if left + p > wide:
+                break
+            if -high <= low + q <= high:
+                found.append(((i, j, (left + p, low + q)), (place, at)))
     return sorted(found)
-
-
-def lasting(graph):
-    """Return the list of the triples of a graph with a row without end, in the graph's sequence."""
-    many = {triple: len(graph[triple]) for triple in graph}
-    ahead = {triple: [] for triple in graph}
-    for triple in graph:
-        for later, _ in graph[triple]:
-            ahead[later].append(triple)
-    ended = [triple for triple in graph if many[triple] == 0]
-    while len(ended) > 0:
-        last = ended.pop()
-        for triple in ahead[last]:
-            many[triple] -= 1
-            if many[triple] == 0:
-                ended.append(triple)
-    return [triple for triple in graph if many[triple] > 0]
 
 
 def check_kit(kit):
@@ -162,9 +154,7 @@ def _is_state(told, many):
     """Tell whether it is an ascending tuple of copies, one or more, of a kit of so many states."""
     if not isinstance(told, tuple) or len(told) == 0:
         return False
-    if not all([_is_copy(row, many) for row in told]):
-        return False
-    return all([told[at] < told[at + 1] for at in range(len(told) - 1)])
+    return all([_is_copy(row, many) for row in told]) and is_ascending(told)
 
 
 def _is_copy(told, many):
@@ -174,26 +164,14 @@ def _is_copy(told, many):
 
 def _bound(table, greatest):
     """Return the reach of pictures of a table whose steps have a greatest absolute value."""
-    undoing, scale = _undoing(table)
+    undoing, scale = inverse(table)
     here, bottom = undoing, scale
-    total = _size(here)
-    while _size(here) >= bottom:
+    total = size(here)
+    while size(here) >= bottom:
         here, bottom = product(here, undoing), bottom * scale
-        total = total * scale + _size(here)
+        total = total * scale + size(here)
     # Dividing the number below 0 rounds the one above 0 up.
-    return -((-greatest * total) // (bottom - _size(here)))
-
-
-def _undoing(table):
-    """Return (top, bottom): but for its sign the inverse of a table is the table top by the bottom."""
-    (a, b), (c, d) = table
-    return (((d, -b), (-c, a)), abs(determinant(table)))
-
-
-def _size(table):
-    """Return the greater of both rows' sums of absolute values."""
-    (a, b), (c, d) = table
-    return max(abs(a) + abs(b), abs(c) + abs(d))
+    return -((-greatest * total) // (bottom - size(here)))
 
 
 def _steps(kit):
@@ -225,16 +203,7 @@ def _led_on(kit, row):
     return tuple(sorted(found))
 
 
-def _unseen(graph, row):
-    """Return the next ones of a row's triples that are not in the graph yet, each once, as they are met."""
-    found = {}
-    for triple in row:
-        for later, _ in graph[triple]:
-            if later not in graph:
-                found[later] = True
-    return list(found)
-
-
-def _met_copies(nexts, places):
-    """Return the ascending tuple of the copies (step, place of the next triple) that last."""
-    return tuple(sorted({(step, places[later]) for later, step in nexts if later in places}))
+def _met_copies(kit, triple, ways, places):
+    """Return the ascending tuple of the copies (step, place of the next triple) of a triple that lasts."""
+    copies = kit[1][triple[0]]
+    return tuple(sorted({(copies[a][0], places[later]) for later, (a, _) in ways}))

@@ -1,4 +1,4 @@
-"""The shapes of plain values: integers, offsets, numbers and points."""
+"""The shapes of plain values: integers, offsets, numbers, points and rows."""
 
 from math import gcd
 
@@ -31,6 +31,21 @@ def is_point(told):
 def is_place(told, many):
     """Tell whether something is an index of so many things, counted from 0."""
     return is_integer(told) and 0 <= told < many
+
+
+def is_row(told):
+    """Tell whether something is a tuple of integers."""
+    return isinstance(told, tuple) and all([is_integer(part) for part in told])
+
+
+def is_two_rows(told):
+    """Tell whether something is a pair of tuples of integers, as an address is."""
+    return is_pair(told) and is_row(told[0]) and is_row(told[1])
+
+
+def is_ascending(told):
+    """Tell whether each thing of a tuple is greater than the one ahead."""
+    return all([told[at] < told[at + 1] for at in range(len(told) - 1)])
 
 
 def lowest(top, bottom):

@@ -16,10 +16,10 @@ def is_growing(told):
     """Tell whether it is a table of which powers of the inverse go to 0."""
     if not is_table(told):
         return False
-    size = determinant(told)
-    if size > 0:
-        return size >= 2 and -size <= trace(told) <= size
-    return size <= -2 and size + 2 <= trace(told) <= -size - 2
+    area = determinant(told)
+    if area > 0:
+        return area >= 2 and -area <= trace(told) <= area
+    return area <= -2 and area + 2 <= trace(told) <= -area - 2
 
 
 def determinant(table):
@@ -88,6 +88,21 @@ def axes(table):
             return n
         here = product(here, table)
     return None
+
+
+def inverse(table):
+    """Return (top, bottom): the inverse of a growing table is the table top by the bottom, which is above 0."""
+    (a, b), (c, d) = table
+    bottom = determinant(table)
+    if bottom < 0:
+        return (((-d, b), (c, -a)), -bottom)
+    return (((d, -b), (-c, a)), bottom)
+
+
+def size(table):
+    """Return the greater of both rows' sums of absolute values."""
+    (a, b), (c, d) = table
+    return max(abs(a) + abs(b), abs(c) + abs(d))
 
 
 def check_table(table):

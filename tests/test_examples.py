@@ -22,6 +22,58 @@ KITS = """
 [True, 1, (0,), 16, 3]
 """
 
+ADDRESSES = """
+>>> from selfkits.addresses import ends, plain, point_of, walks
+>>> [point_of(block, 0, ((3,), (0,))), point_of(block, 0, ((), (2,))), ends(block, 0, (3, 0)), plain(block, 0, ((2, 1), (2, 1, 2, 1))), len(walks(side, 0, 3))]
+[((1, 2), (1, 2)), ((1, 1), (0, 1)), (0, (2, 2)), ((), (2, 1)), 8]
+"""
+
+MEETS = """
+>>> from selfkits.meets import do_meet, is_meeting, meets
+>>> [do_meet(block, 0, block, 0, (1, 1)), do_meet(block, 0, block, 0, (2, 0)), do_meet(side, 0, block, 0, (-1, 0))]
+[True, False, True]
+>>> [is_meeting(block, 0, block, 0, (1, 0), ('meet', ((), (2,)), ((), (0,)))), is_meeting(side, 0, side, 0, (1, 0), ('apart', ()))]
+[True, False]
+"""
+
+INSIDES = """
+>>> from selfkits.insides import inside, is_inside, same
+>>> other = (two, ((((0, 0), 1), ((0, 1), 1), ((1, 0), 1), ((1, 1), 1)), (((0, 0), 0), ((0, 1), 0), ((1, 0), 0), ((1, 1), 0))))
+>>> [same(block, 0, other, 1, (0, 0))[0], same(side, 0, block, 0, (0, 0)), inside(side, 0, block, 0, (0, 0))[0]]
+['same', ('other', (2, 2)), 'inside']
+"""
+
+POINTS = """
+>>> from selfkits.points import addresses, is_in
+>>> [is_in(block, 0, ((1, 3), (1, 1))), is_in(block, 0, ((4, 3), (0, 1))), addresses(side, 0, ((0, 1), (1, 2)))]
+[True, False, [((0,), (1,)), ((1,), (0,))]]
+"""
+
+MAKES = """
+>>> from selfkits.makes import alone, folded, moved, turned, turns_of
+>>> [len(turns_of(block)), turned(side, ((0, 1), (1, 0)))[1], moved(side, 0, (1, 0))[1][1], len(folded(other)[1]), folded(other) == block]
+[8, ((((0, 0), 0), ((1, 0), 0)),), (((2, 0), 0), ((2, 1), 0)), 1, True]
+"""
+
+HULLS = """
+>>> from selfkits.hulls import box, greatest, returns, width
+>>> [returns(two, (1, 2)), returns(turn, (1, 0)), box(block, 0), greatest(dust, 0, (1, 0)), width(block, 0, (1, 1))]
+[(1, (1, 2)), (8, (1, 16)), ((0, 1), (0, 1), (1, 1), (1, 1)), ((1, 1), ((), (1,)), (((1, 1),),)), (2, 1)]
+"""
+
+TURNS = """
+>>> from selfkits.turns import is_kept, keeps
+>>> [len(keeps(block, 0)), keeps(side, 0)[0], is_kept(dust, 0, ((-1, 0), (0, 1)), (1, 0))]
+[8, (((-1, 0), (0, -1)), (0, 1)), True]
+"""
+
+# The document names this kit in a later section.
+DUST = """
+>>> dust = (((3, 0), (0, 3)), ((((0, 0), 0), ((2, 0), 0)),))
+"""
+
+SECTIONS = [TABLES, KITS, ADDRESSES, MEETS, INSIDES, POINTS, DUST, MAKES, HULLS, TURNS]
+
 
 class ExamplesTest(unittest.TestCase):
     def check(self, text, name):
@@ -32,12 +84,9 @@ class ExamplesTest(unittest.TestCase):
         told = doctest.DocTestRunner(verbose=False).run(found, out=printed.append)
         self.assertEqual(told.failed, 0, "".join(printed))
 
-    def test_interface(self):
-        self.check(TABLES + KITS, "DOC.md")
-
-    def test_each_section_alone(self):
-        self.check(TABLES, "tables.py")
-        self.check(KITS, "kits.py")
+    def test_each_section_behind_the_ones_ahead(self):
+        for at in range(len(SECTIONS)):
+            self.check("".join(SECTIONS[:at + 1]), "DOC.md")
 
     def test_readme(self):
         place = os.path.join(os.path.dirname(os.path.abspath(__file__)), os.pardir, "README.md")

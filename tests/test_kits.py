@@ -2,92 +2,17 @@
 
 import unittest
 from fractions import Fraction
-from itertools import product as all_of
-from math import ceil
 
+from samples import (
+    BLOCK, CHAIN, DRAGON, DUST, FOUR, KITS, NO_KITS, NO_OFFSETS, ONE_COPY, ONE_PART, SIDE, SKEWED, STILL, TURN, TWO,
+    Base,
+    grid, has_point, small_kits, told_reach, told_walks,
+)
 from selfkits import kits
 from selfkits.errors import InvalidKit, InvalidOffset, InvalidPair, InvalidPower, InvalidState, NoMeeting
-from selfkits.kits import graph_of, is_kit, joined, lasting, met, near, powered, reach, reached
-from selfkits.tables import is_growing, power, product, times
-
-TWO = ((2, 0), (0, 2))
-TURN = ((1, -1), (1, 1))
-BLOCK = (TWO, ((((0, 0), 0), ((0, 1), 0), ((1, 0), 0), ((1, 1), 0)),))
-SIDE = (TWO, ((((0, 0), 0), ((0, 1), 0)),))
-DUST = (((3, 0), (0, 3)), ((((0, 0), 0), ((2, 0), 0)),))
-DRAGON = (TURN, ((((0, 0), 0), ((1, 0), 0)),))
-STILL = (TURN, ((((0, 0), 0),),))
-# State 0 is the block, state 1 its left side, state 2 its corner (0, 0), state 3 the block and one beside it.
-FOUR = (TWO, (
-    (((0, 0), 0), ((0, 1), 0), ((1, 0), 0), ((1, 1), 0)),
-    (((0, 0), 1), ((0, 1), 1)),
-    (((0, 0), 2),),
-    (((0, 0), 3), ((0, 1), 3), ((2, 0), 3), ((2, 1), 3)),
-))
-# States lead on in a row: 0 to 1, 1 to 2 and 3, 3 to itself, 2 to 1.
-CHAIN = (((0, 2), (-1, 0)), (
-    (((-1, 2), 1),),
-    (((0, 0), 2), ((1, -3), 3)),
-    (((0, 0), 1),),
-    (((-2, 0), 3), ((2, 1), 3)),
-))
-SKEWED = (((2, 1), (-2, 0)), ((((0, 0), 1), ((1, 0), 0)), (((-1, 1), 0), ((0, 0), 1), ((2, -1), 0))))
-KITS = [BLOCK, SIDE, DUST, DRAGON, STILL, FOUR, CHAIN, SKEWED]
-
-ONE_COPY = (((0, 0), 0),)
-ONE_PART = ((((-1, 2), 0), ((1, 1), 0)),)
-NO_KITS = [
-    # no pair of a table and states
-    (), (TWO,), (TWO, (ONE_COPY,), 0), TWO, 5, None, "ab", [TWO, (ONE_COPY,)], (TWO, [ONE_COPY]), (TWO, 0), (TWO, None),
-    # no table, or none that grows
-    ((), (ONE_COPY,)), (((2, 0), (0, True)), (ONE_COPY,)), (((2, 0), (0, 2), (0, 0)), (ONE_COPY,)),
-    (((2, 0), (0, 1)), (ONE_COPY,)), (((1, 0), (0, 1)), (ONE_COPY,)), (((0, 2), (1, 1)), (ONE_COPY,)),
-    (((0, 0), (0, 0)), (ONE_COPY,)), (((3, 0), (0, 1)), (ONE_COPY,)),
-    # no states, a state without copies, a state that is none
-    (TWO, ()), (TWO, ((),)), (TWO, (ONE_COPY, ())), (TWO, ((), ONE_COPY)), (TWO, (0,)), (TWO, ([((0, 0), 0)],)),
-    (TWO, ONE_COPY),
-    # copies in another sequence, or twice
-    (TWO, ((((1, 0), 0), ((0, 0), 0)),)), (TWO, ((((0, 1), 0), ((0, 0), 0)),)),
-    (TWO, ((((0, 0), 1), ((0, 0), 0)), ONE_COPY)), (TWO, ((((0, 0), 0), ((-1, 9), 0)),)),
-    (TWO, ((((0, 0), 0), ((0, 0), 0)),)), (TWO, (ONE_COPY, (((0, 0), 0), ((0, 1), 0), ((0, 1), 0)))),
-    # copies that are none
-    (TWO, ((0,),)), (TWO, (((0, 0),),)), (TWO, ((((0, 0),),),)), (TWO, ((((0, 0), 0, 0),),)), (TWO, (([(0, 0), 0],),)),
-    # steps that are none
-    (TWO, ((((0,), 0),),)), (TWO, ((((0, 0, 0), 0),),)), (TWO, (((0, 0),),)), (TWO, ((((), 0),),)),
-    (TWO, ((((0, True), 0),),)), (TWO, ((((False, 0), 0),),)), (TWO, ((((0, None), 0),),)), (TWO, ((([0, 0], 0),),)),
-    (TWO, ((((0, (0, 1)), 0),),)),
-    # states of copies that are none
-    (TWO, ((((0, 0), -1),),)), (TWO, ((((0, 0), 1),),)), (TWO, ((((0, 0), 2),), ONE_COPY)),
-    (TWO, ((((0, 0), True),), ONE_COPY)), (TWO, ((((0, 0), False),),)), (TWO, ((((0, 0), (0, 0)),),)),
-    (TWO, ((((0, 0), None),),)), (TWO, (ONE_COPY, (((0, 0), 0), ((0, 1), 2)))),
-]
-NO_OFFSETS = [(), (1,), (1, 2, 3), (True, 0), (0, False), ((1, 0), 0), (0, None), None, 3, [0, 0]]
-
-
-def told_reach(kit):
-    """[6] in its own words, in fractions."""
-    (a, b), (c, d) = kit[0]
-    size = a * d - b * c
-    inverse = [[Fraction(d, size), Fraction(-b, size)], [Fraction(-c, size), Fraction(a, size)]]
-    power_of, sizes = inverse, []
-    while True:
-        sizes.append(max(abs(row[0]) + abs(row[1]) for row in power_of))
-        if sizes[-1] < 1:
-            break
-        power_of = [[sum(row[m] * inverse[m][n] for m in (0, 1)) for n in (0, 1)] for row in power_of]
-    greatest = max(abs(x) for copies in kit[1] for step, _ in copies for x in step)
-    return ceil(sum(sizes) * greatest / (1 - sizes[-1])), len(sizes)
-
-
-def told_walks(kit, state, n):
-    """Pairs (places, states) of all walks of n copies: the states from the first one on."""
-    walks = [((), (state,))]
-    for _ in range(n):
-        walks = [
-            (places + (at,), states + (led,))
-            for places, states in walks for at, (_, led) in enumerate(kit[1][states[-1]])
-        ]
-    return walks
+from selfkits.graphs import lasting
+from selfkits.kits import graph_of, is_kit, joined, met, near, powered, reach, reached
+from selfkits.tables import power, product, times
 
 
 def told_powered(kit, n):
@@ -138,57 +63,6 @@ def told_met(kit, k, l, offset):
         tuple(sorted({(step, places[later]) for later, step in nexts[here] if later in lasts}))
         for here in sequence
     ))
-
-
-def has_point(kit, state, point):
-    """Whether a point with fractions is in a picture: some row of points within the reach has no end."""
-    (a, b), (c, d) = kit[0]
-    bound = told_reach(kit)[0]
-    nexts, row = {}, [(state, point)]
-    while row:
-        here = row.pop()
-        k, (x, y) = here
-        if here not in nexts and abs(x) <= bound and abs(y) <= bound:
-            nexts[here] = [(led, (a * x + b * y - p, c * x + d * y - q)) for (p, q), led in kit[1][k]]
-            row.extend(nexts[here])
-    lasts = set(nexts)
-    while True:
-        fewer = {here for here in lasts if any(later in lasts for later in nexts[here])}
-        if fewer == lasts:
-            return (state, point) in lasts
-        lasts = fewer
-
-
-def grid(least, greatest, bottom):
-    row = [Fraction(top, bottom) for top in range(least * bottom, greatest * bottom + 1)]
-    return [(x, y) for x in row for y in row]
-
-
-def small_kits():
-    """A few kits of each of many tables, made by a rule so that they are the same each time."""
-    seed = 1
-    found = []
-    for table in all_of(all_of((-2, -1, 0, 1, 2), repeat=2), repeat=2):
-        if is_growing(table):
-            rows = []
-            for _ in range(1 + seed % 2):
-                copies = set()
-                for _ in range(2 + seed % 3):
-                    seed = (seed * 1103515245 + 12345) % 2 ** 31
-                    copies.add(((seed // 64 % 4 - 1, seed // 4096 % 4 - 2), seed // 2 ** 20 % 2))
-                rows.append(copies)
-            many = len(rows)
-            found.append((table, tuple(tuple(sorted({(step, at % many) for step, at in row})) for row in rows)))
-    return found
-
-
-class Base(unittest.TestCase):
-    def raises(self, error, value, call, *rest, **more):
-        with self.assertRaises(error) as caught:
-            call(*rest, **more)
-        self.assertIs(type(caught.exception), error)
-        self.assertIs(type(caught.exception.value), type(value))
-        self.assertEqual(caught.exception.value, value)
 
 
 class IsKitTest(Base):
@@ -534,8 +408,8 @@ class NearTest(Base):
                 most = reach(one) + reach(other)
                 for offset in [(0, 0), (1, 0), (-1, 1), (0, -2)]:
                     start = (0, 0, offset)
-                    told = lasting(graph_of(one, other, start, (most, most)))
-                    self.assertEqual(lasting(graph_of(one, other, start, near(one, other))), told)
+                    told = lasting(graph_of(one, other, [start], (most, most)))
+                    self.assertEqual(lasting(graph_of(one, other, [start], near(one, other))), told)
 
 
 class MadeKitsTest(Base):

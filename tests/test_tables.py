@@ -4,6 +4,7 @@ import unittest
 from fractions import Fraction
 from itertools import product as all_of
 
+from samples import Base
 from selfkits import tables
 from selfkits.errors import InvalidOffset, InvalidPoint, InvalidPower, InvalidTable
 from selfkits.tables import axes, determinant, is_growing, is_table, power, product, times, trace, undone
@@ -48,15 +49,6 @@ def moved_by(table, point):
     (a, b), (c, d) = table
     x, y = [Fraction(*number) for number in point]
     return tuple((told.numerator, told.denominator) for told in (a * x + b * y, c * x + d * y))
-
-
-class Base(unittest.TestCase):
-    def raises(self, error, value, call, *rest, **more):
-        with self.assertRaises(error) as caught:
-            call(*rest, **more)
-        self.assertIs(type(caught.exception), error)
-        self.assertIs(type(caught.exception.value), type(value))
-        self.assertEqual(caught.exception.value, value)
 
 
 class KindsTest(Base):
@@ -154,7 +146,8 @@ class WorksTest(Base):
         self.assertEqual(undone(((0, -2), (-1, 0)), ((4, 3), (1, 5))), ((-1, 5), (-2, 3)))
 
     def test_undone_comes_back(self):
-        points = [((1, 2), (1, 3)), ((-5, 12), (7, 18)), ((9, 1), (-1, 97)), ((0, 1), (3, 4)), ((BIG, BIG + 1), (1, BIG))]
+        points = [((1, 2), (1, 3)), ((-5, 12), (7, 18)), ((9, 1), (-1, 97)), ((0, 1), (3, 4)),
+                  ((BIG, BIG + 1), (1, BIG))]
         for table in all_of(all_of(range(-3, 4), repeat=2), repeat=2):
             if is_growing(table):
                 for point in points:
