@@ -3,7 +3,7 @@
 from selfkits.errors import InvalidKit, InvalidPair, InvalidPower, InvalidState, NoMeeting
 from selfkits.graphs import graph_from, lasting
 from selfkits.shapes import is_ascending, is_integer, is_offset, is_pair, is_place
-from selfkits.tables import check_offset, inverse, is_growing, power, product, size, times
+from selfkits.tables import check_offset, inverse, is_growing, power, product, size
 
 
 def is_kit(told):
@@ -43,7 +43,7 @@ def powered(kit, n):
         raise InvalidPower(n)
     rows = kit[1]
     for _ in range(n - 1):
-        rows = tuple([_led_on(kit, row) for row in rows])
+        rows = tuple([led_on(kit, row) for row in rows])
     return (power(kit[0], n), rows)
 
 
@@ -53,7 +53,7 @@ def joined(kit, parts):
     _check_parts(kit, parts)
     table, states = kit
     row = [(offset, state) for state, offset in parts]
-    return (table, states + (_led_on(kit, row),))
+    return (table, states + (led_on(kit, row),))
 
 
 def met(kit, k, l, offset):
@@ -127,6 +127,17 @@ def next_ones(one, other, triple, bounds):
     return sorted(found)
 
 
+def led_on(kit, row):
+    """Return the ascending tuple of what a row of (offset, state) becomes along one copy more, each once."""
+    ((a, b), (c, d)), states = kit
+    found = set()
+    for (x, y), state in row:
+        left, low = a * x + b * y, c * x + d * y
+        for (p, q), led in states[state]:
+            found.add(((left + p, low + q), led))
+    return tuple(sorted(found))
+
+
 def check_kit(kit):
     """Raise InvalidKit for what is no kit."""
     if not is_kit(kit):
@@ -190,17 +201,6 @@ def _gap(row, one, other):
 def _farthest(offsets):
     """Return the greatest absolute value in some offsets."""
     return max([max(abs(x), abs(y)) for x, y in offsets])
-
-
-def _led_on(kit, row):
-    """Return the ascending tuple of what a row of (offset, state) becomes along one copy more, each once."""
-    table, states = kit
-    found = set()
-    for offset, state in row:
-        x, y = times(table, offset)
-        for (p, q), led in states[state]:
-            found.add(((x + p, y + q), led))
-    return tuple(sorted(found))
 
 
 def _met_copies(kit, triple, ways, places):

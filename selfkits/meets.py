@@ -16,9 +16,7 @@ def meets(one, k, other, l, offset):
     if start not in lasts:
         numbers = numbered(graph_of(one, other, [start], bounds_of(one, other)))
         return ("apart", tuple([(triple, numbers[triple]) for triple in sorted(numbers)]))
-    ahead, ring = looped(lasts, start)
-    first = (tuple([a for a, _ in ahead]), tuple([a for a, _ in ring]))
-    second = (tuple([b for _, b in ahead]), tuple([b for _, b in ring]))
+    first, second = meeting_of(lasts, start)
     return ("meet", first, second)
 
 
@@ -66,6 +64,21 @@ def bounds_of(one, other):
     return (most, most)
 
 
+def meeting_of(lasts, start):
+    """Return the addresses of one point, of both pictures of a triple that lasts."""
+    ahead, ring = looped(lasts, start)
+    first = (tuple([a for a, _ in ahead]), tuple([a for a, _ in ring]))
+    second = (tuple([b for _, b in ahead]), tuple([b for _, b in ring]))
+    return (first, second)
+
+
+def is_paper(told):
+    """Tell whether something has the form of a tuple of (triple, number)."""
+    if not isinstance(told, tuple):
+        return False
+    return all([is_pair(row) and _is_triple(row[0]) and is_integer(row[1]) for row in told])
+
+
 def _is_meet(told):
     """Tell whether something has the form of ("meet", address, address)."""
     if not isinstance(told, tuple) or len(told) != 3:
@@ -75,9 +88,7 @@ def _is_meet(told):
 
 def _is_apart(told):
     """Tell whether something has the form of ("apart", paper)."""
-    if not is_pair(told) or told[0] != "apart" or not isinstance(told[1], tuple):
-        return False
-    return all([is_pair(row) and _is_triple(row[0]) and is_integer(row[1]) for row in told[1]])
+    return is_pair(told) and told[0] == "apart" and is_paper(told[1])
 
 
 def _is_triple(told):

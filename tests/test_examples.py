@@ -67,12 +67,33 @@ TURNS = """
 [8, (((-1, 0), (0, -1)), (0, 1)), True]
 """
 
-# The document names this kit in a later section.
-DUST = """
->>> dust = (((3, 0), (0, 3)), ((((0, 0), 0), ((2, 0), 0)),))
+SQUARES = """
+>>> from selfkits.squares import shown, shown_squares, square_kit
+>>> carpet = (((3, 0), (0, 3)), ((((0, 0), 0), ((0, 1), 0), ((0, 2), 0), ((1, 0), 0), ((1, 2), 0), ((2, 0), 0)),))
+>>> [square_kit(two) == block, shown(block, 0, 0, (-1, 0)), shown(block, 0, 1, (3, 0)), len(shown_squares(block, 0, 0))]
+[True, True, False, 9]
 """
 
-SECTIONS = [TABLES, KITS, ADDRESSES, MEETS, INSIDES, POINTS, DUST, MAKES, HULLS, TURNS]
+COUNTS = """
+>>> from selfkits.counts import area, count, rule
+>>> [count(block, 0, 0), count(block, 0, 3), rule(block, 0), area(block, 0), area(side, 0)]
+[9, 100, ((9, 16, 36), ((7, 1), (-14, 1), (8, 1))), (1, 1), (0, 1)]
+"""
+
+RATES = """
+>>> from selfkits.rates import faster, fills, rate
+>>> [fills(block, 0), fills(side, 0), faster(block, 0, side, 0), rate(side, 0)[1:], rate(carpet, 0)[1:]]
+[True, False, 1, ((2, 1), (2, 1)), ((6, 1), (6, 1))]
+"""
+
+PIECES = """
+>>> from selfkits.pieces import hangs, is_hanging, lots_of, together
+>>> dust = (((3, 0), (0, 3)), ((((0, 0), 0), ((2, 0), 0)),))
+>>> [together(side, 0), lots_of(dust, 0), hangs(dust, 0)[:3], hangs(block, 0)[0], is_hanging(dust, 0, hangs(dust, 0))]
+[[(0, 1)], [(0,), (1,)], ('parted', 0, (0,)), 'whole', True]
+"""
+
+SECTIONS = [TABLES, KITS, ADDRESSES, MEETS, INSIDES, POINTS, SQUARES, COUNTS, RATES, MAKES, PIECES, HULLS, TURNS]
 
 
 class ExamplesTest(unittest.TestCase):
