@@ -16,23 +16,23 @@ class Lots:
     """
 
     def __init__(self, kit):
-        self.kit = kit
-        self.ranges = [_range_of(row) for row in _tops(kit)]
-        self.square = square_of(kit[0])
-        self.known = {}
+        self._kit = kit
+        self._ranges = [_range_of(row) for row in _tops(kit)]
+        self._square = square_of(kit[0])
+        self._known = {}
 
     def has_point(self, placed):
         """Tell whether a placed picture has a point in the square of (0, 0)."""
-        if placed not in self.known:
+        if placed not in self._known:
             # What is out of range is not kept: there is no end of it.
-            if not _is_in(self.ranges[placed[0]], placed[1]):
+            if not _is_in(self._ranges[placed[0]], placed[1]):
                 return False
             self._seek(placed)
-        return self.known[placed]
+        return self._known[placed]
 
     def offsets_of(self, state):
         """Return the ascending list of the offsets by which the picture of a state has a point in the square."""
-        left, low, right, high = self.ranges[state]
+        left, low, right, high = self._ranges[state]
         row = [(x, y) for x in range(left, right + 1) for y in range(low, high + 1)]
         return [offset for offset in row if self.has_point((state, offset))]
 
@@ -67,18 +67,18 @@ class Lots:
 
     def _spread(self, lot):
         """Return the list of the placed pictures that make up the table times those of a lot, each once."""
-        (a, b), (c, d) = self.kit[0]
+        (a, b), (c, d) = self._kit[0]
         found = {}
         for state, (x, y) in lot:
             left, low = a * x + b * y, c * x + d * y
-            for (p, q), led in self.kit[1][state]:
+            for (p, q), led in self._kit[1][state]:
                 found[(led, (left + p, low + q))] = True
         return list(found)
 
     def _offsets_with(self, state, x, y):
         """Return the list of the squares of the table times a square that may have a point of a placed picture."""
-        left, low, right, high = self.ranges[state]
-        first, under, last, over = self.square
+        left, low, right, high = self._ranges[state]
+        first, under, last, over = self._square
         return [
             (p, q)
             for p in range(max(first, x - right), min(last, x - left) + 1)
@@ -95,15 +95,15 @@ class Lots:
         while len(row) > 0:
             if len(rest[-1]) == 0:
                 rest.pop()
-                self.known[row.pop()] = False
+                self._known[row.pop()] = False
                 continue
             later = rest[-1].pop()
             # What was seen and is not known yet stands in the row.
-            if self.known.get(later, later in seen):
+            if self._known.get(later, later in seen):
                 for placed in row:
-                    self.known[placed] = True
+                    self._known[placed] = True
                 return
-            if later not in self.known:
+            if later not in self._known:
                 seen[later] = True
                 row.append(later)
                 rest.append(self._nexts(later))

@@ -1,8 +1,9 @@
 """Kits that are made of kits: moved, turned, put side by side, and without what is not needed."""
 
-from selfkits.errors import InvalidPair, InvalidTurn
+from selfkits.errors import InvalidTurn
 from selfkits.insides import classes
 from selfkits.kits import check_kit, check_state, joined
+from selfkits.meets import check_like
 from selfkits.tables import check_offset, is_table, product, times
 
 # All of them, ascending.
@@ -58,10 +59,7 @@ def alone(kit, state):
 
 def side_by_side(one, other):
     """Return the kit with the states of both, the other one's behind."""
-    check_kit(one)
-    check_kit(other)
-    if one[0] != other[0]:
-        raise InvalidPair((one, other))
+    check_like(one, other)
     many = len(one[1])
     behind = [tuple([(step, led + many) for step, led in copies]) for copies in other[1]]
     return (one[0], one[1] + tuple(behind))

@@ -49,13 +49,18 @@ def triples(one, k, other, l, offset):
 
 def check_both(one, k, other, l, offset):
     """Raise what is due for two kits, a state of each, and an offset."""
+    check_like(one, other)
+    check_state(one, k)
+    check_state(other, l)
+    check_offset(offset)
+
+
+def check_like(one, other):
+    """Raise what is due for two kits, and InvalidPair for those of unlike tables."""
     check_kit(one)
     check_kit(other)
     if one[0] != other[0]:
         raise InvalidPair((one, other))
-    check_state(one, k)
-    check_state(other, l)
-    check_offset(offset)
 
 
 def bounds_of(one, other):

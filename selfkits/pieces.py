@@ -37,6 +37,15 @@ def hangs(kit, state):
     return ("whole", tuple(rows))
 
 
+def is_whole(kit, state):
+    """Tell whether all pictures that a state leads to hang together."""
+    check_kit(kit)
+    check_state(kit, state)
+    states = reached(kit, state)
+    lasts = _lasts_of(kit, states)
+    return all([len(_lots_of(kit, here, _together(kit, here, lasts))) == 1 for here in states])
+
+
 def is_hanging(kit, state, told):
     """Tell whether what is told, in the form of what `hangs` returns, is right."""
     check_kit(kit)

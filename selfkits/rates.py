@@ -23,7 +23,7 @@ def faster(one, k, other, l):
     check_squares(other, l)
     first, mine = _root_of(one, k)
     second, its = _root_of(other, l)
-    shared = common(first, second) if len(first) >= len(second) else common(second, first)
+    shared = common(first, second)
     # A shared root that is the greatest of both is the same one.
     if is_root(shared, mine) and is_root(shared, its):
         return 0

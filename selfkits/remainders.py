@@ -55,7 +55,7 @@ def shortest_rule(numbers, prime):
 def common_part(one, other, prime):
     """Return the greatest common divisor, by a prime, of two sums of powers, its first number 1.
 
-    Both are lists of the numbers of the powers, the highest power first; the one is at least as long.
+    Both are rows of the numbers of the powers, the highest power first, that of the one 1.
     """
     high, low = one, _without_noughts(other, prime)
     while len(low) > 0:
@@ -85,10 +85,10 @@ def _without_noughts(row, prime):
 
 
 def _rest_of(high, low, prime):
-    """Return what is left of a sum of powers behind its division by another one that begins with 1."""
+    """Return what is left of a sum of powers behind its division by another one that begins with 1, noughts ahead."""
     rest = list(high)
     for at in range(len(high) - len(low) + 1):
         part = rest[at] % prime
         for n, number in enumerate(low):
             rest[at + n] = rest[at + n] - part * number
-    return rest[max(0, len(high) - len(low) + 1):]
+    return rest

@@ -1,7 +1,9 @@
 """counts.py: point [11], counts, their shortest rules and areas, and the errors of the section."""
 
+import random
 import unittest
 from fractions import Fraction
+from unittest.mock import patch
 
 from samples import BLOCK, DUST, FOUR, NO_KITS, NO_STATES, SIDE, TWO, Base, fraction
 from selfkits import counts
@@ -11,6 +13,7 @@ from selfkits.hulls import box
 from selfkits.kits import joined, powered
 from selfkits.makes import moved, turned, turns_of
 from selfkits.rates import fills, rate
+from selfkits.remainders import inverted, nearest, primes, shortest_rule
 from selfkits.squares import kinds, shown_squares, square_kit
 from selfkits.tables import determinant, power, times
 from test_squares import NO_ZOOMS
@@ -127,11 +130,69 @@ class RuleTest(Base):
         self.assertGreater(tried, 40)
 
 
+class PrimesTest(Base):
+    """Rules are found by primes, and proved: primes that are too small change nothing but the time it takes."""
+
+    def test_small_primes(self):
+        told = [rule(kit, state) for kit, state in CASES]
+        for row in ([3, 5, 7, 11, 13, 101, 10007, (1 << 61) - 1], [5, 3, 997, (1 << 89) - 1], [7, (1 << 127) - 1]):
+            with patch("selfkits.counts.primes", lambda: row):
+                self.assertEqual([rule(kit, state) for kit, state in CASES], told)
+
+    def test_each_prime_is_one(self):
+        """Lucas and Lehmer's test of 2 to the power n less 1."""
+        for prime in primes():
+            digits = prime.bit_length()
+            self.assertEqual(prime, 2 ** digits - 1)
+            here = 4
+            for _ in range(digits - 2):
+                here = (here * here - 2) % prime
+            self.assertEqual(here, 0)
+
+    def test_nearest_and_inverted(self):
+        for prime in (3, 7, 101, 8191):
+            for number in list(range(1, min(prime, 300))) + [prime + 1, 5 * prime - 1, -1]:
+                self.assertEqual(inverted(number, prime) * number % prime, 1)
+                self.assertEqual((nearest(number, prime) - number) % prime, 0)
+                self.assertTrue(2 * abs(nearest(number, prime)) < prime)
+        self.assertEqual(nearest(0, 7), 0)
+
+    def test_shortest_rules(self):
+        draws = random.Random(24)
+        for _ in range(600):
+            many, prime = draws.randrange(1, 6), draws.choice([5, 7, 11, 101, (1 << 31) - 1])
+            parts = [draws.choice([0, 0, 1, -1, 2, 3]) for _ in range(many)]
+            numbers = [draws.choice([0, 1, 2, -1, 5]) for _ in range(many)]
+            while len(numbers) < 14:
+                numbers.append(sum(part * numbers[-1 - n] for n, part in enumerate(parts)))
+            told = shortest_rule(numbers, prime)
+            self.assertEqual(len(told), self.shortest(numbers, prime))
+            for at in range(len(told), len(numbers)):
+                self.assertEqual((sum(part * numbers[at - 1 - n] for n,
+                    part in enumerate(told)) - numbers[at]) % prime, 0)
+
+    def shortest(self, numbers, prime):
+        """How many of the lines of numbers, each from a later one on, do not come of one another."""
+        lines = [[number % prime for number in numbers[at:at + 7]] for at in range(7)]
+        rank = 0
+        for at in range(7):
+            pivot = next((line for line in lines[rank:] if line[at]), None)
+            if pivot is not None:
+                lines.remove(pivot)
+                lines.insert(rank, pivot)
+                for n in range(rank + 1, 7):
+                    share = lines[n][at] * pow(pivot[at], -1, prime)
+                    lines[n] = [(one - share * other) % prime for one, other in zip(lines[n], pivot)]
+                rank += 1
+        return rank
+
+
 class AreaTest(Base):
     def test_by_hand(self):
         for kit, state, told in [
             (BLOCK, 0, (1, 1)), (SIDE, 0, (0, 1)), (FOUR, 3, (2, 1)), (FOUR, 2, (0, 1)), (FRAMED, 0, (0, 1)),
-            (FRAMED, 1, (1, 1)), (FRAMED, 2, (1, 2)), (joined(BLOCK, ((0, (0, 0)), (0, (1, 0)), (0, (5, 5)))), 1, (3, 1)),
+            (FRAMED, 1, (1, 1)), (FRAMED, 2, (1, 2)),
+            (joined(BLOCK, ((0, (0, 0)), (0, (1, 0)), (0, (5, 5)))), 1, (3, 1)),
             (PARTLY, 0, (1, 1)),
         ]:
             self.assertEqual(self.both_ways(area, NAMES[:2], (kit, state)), told)

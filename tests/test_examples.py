@@ -93,7 +93,19 @@ PIECES = """
 [[(0, 1)], [(0,), (1,)], ('parted', 0, (0,)), 'whole', True]
 """
 
-SECTIONS = [TABLES, KITS, ADDRESSES, MEETS, INSIDES, POINTS, SQUARES, COUNTS, RATES, MAKES, PIECES, HULLS, TURNS]
+PICTURES = """
+>>> from selfkits.pictures import drawn, first_unlike, parts_of
+>>> [drawn(dust, 0, 2, 0, -1, 9, 2), first_unlike(block, 0, side, 0, 2), len(parts_of(block, 0, 0, (0, 0)))]
+[['####.####', '####.####'], (0, (1, -1)), 4]
+"""
+
+TEXTS = """
+>>> from selfkits.texts import show_address, show_kit, show_point
+>>> [show_address(((3,), (0, 1))), show_address(((), (2,))), show_point(((1, 2), (-3, 1))), show_kit(side)]
+['3 ( 0 1 )', '( 2 )', '1/2 -3', 'table 2 0 0 2\\n0 : 0 0 0, 0 1 0']
+"""
+
+SECTIONS = [TABLES, KITS, ADDRESSES, MEETS, INSIDES, POINTS, SQUARES, COUNTS, RATES, MAKES, PIECES, HULLS, TURNS, PICTURES, TEXTS]
 
 
 class ExamplesTest(unittest.TestCase):

@@ -6,7 +6,8 @@ from functools import lru_cache
 from itertools import combinations
 
 from samples import (
-    ADDRESS, BLOCK, CHAIN, DRAGON, DUST, FOUR, KITS, NO_KITS, NO_STATES, SIDE, SKEWED, STILL, TURN, TWO, Base, both_reaches,
+    ADDRESS, BLOCK, CHAIN, DRAGON, DUST, FOUR, KITS, NO_KITS, NO_STATES, SIDE, SKEWED, STILL, TURN, TWO, Base,
+    both_reaches,
     fits, is_told_address, small_kits, told_graph, told_nexts, told_point, without_end,
 )
 from selfkits import pieces
@@ -136,7 +137,8 @@ class LotsTest(Base):
         for kit, state, pairs, lots in [
             (SIDE, 0, [(0, 1)], [(0, 1)]), (DUST, 0, [], [(0,), (1,)]), (DRAGON, 0, [(0, 1)], [(0, 1)]),
             (STILL, 0, [], [(0,)]), (ROW, 0, [(0, 1), (1, 2), (2, 3)], [(0, 1, 2, 3)]),
-            (BLOCK, 0, list(combinations(range(4), 2)), [(0, 1, 2, 3)]), (FOUR, 3, [(0, 1), (0, 2), (0, 3), (1, 2), (1, 3), (2, 3)], [(0, 1, 2, 3)]),
+            (BLOCK, 0, list(combinations(range(4), 2)), [(0, 1, 2, 3)]),
+            (FOUR, 3, [(0, 1), (0, 2), (0, 3), (1, 2), (1, 3), (2, 3)], [(0, 1, 2, 3)]),
             (HOOK, 0, [(0, 1), (1, 2)], [(0, 1, 2)]), (APART, 0, [(0, 2)], [(0, 2), (1,), (3,)]),
             (BENT, 0, [], [(0,), (1,), (2,)]), (LEADING, 1, [], [(0,), (1,)]),
         ]:
@@ -171,11 +173,13 @@ class LotsTest(Base):
 class HangsTest(Base):
     def test_by_hand(self):
         self.assertEqual(hangs(STILL, 0), ("whole", ((0, ()),)))
-        self.assertEqual(self.both_ways(hangs, NAMES, (DUST, 0)), ("parted", 0, (0,), ((0, 1, (((0, 0, (2, 0)), 0),)),)))
+        self.assertEqual(self.both_ways(hangs, NAMES, (DUST, 0)),
+            ("parted", 0, (0,), ((0, 1, (((0, 0, (2, 0)), 0),)),)))
         for kit, state, told in [
             (BLOCK, 0, "whole"), (SIDE, 0, "whole"), (DRAGON, 0, "whole"), (GASKET, 0, "whole"), (CARPET, 0, "whole"),
             (FOUR, 3, "whole"), (ROW, 0, "whole"), (HOOK, 0, "whole"), (powered(GASKET, 2), 0, "whole"),
-            (powered(DUST, 2), 0, "parted"), (side_by_side(DUST, DUST), 1, "parted"), (moved(SIDE, 0, (4, -4)), 1, "whole"),
+            (powered(DUST, 2), 0, "parted"), (side_by_side(DUST, DUST), 1, "parted"),
+            (moved(SIDE, 0, (4, -4)), 1, "whole"),
             (joined(SIDE, ((0, (0, 0)), (0, (2, 0)))), 1, "parted"), (CROSSED, 0, "whole"),
             (joined(SIDE, ((0, (0, 0)), (0, (0, 1)))), 1, "whole"),
         ]:
@@ -287,13 +291,17 @@ class IsHangingTest(Base):
         for tree, right in [
             ((first, second, third), True), ((first, second), False), ((), False), ((second, first, third), False),
             ((first, second, second), False), ((first, second, third, third), False),
-            ((first, second, (1, 3, ((), (2,)), ((), (0,)))), True), ((first, (1, 3, ((), (2,)), ((), (0,))), second), False),
-            ((first, second, (2, 3, ((), (1,)), ((), (0,)))), True), ((second, third, (3, 1, ((), (0,)), ((), (2,)))), True),
+            ((first, second, (1, 3, ((), (2,)), ((), (0,)))), True),
+            ((first, (1, 3, ((), (2,)), ((), (0,))), second), False),
+            ((first, second, (2, 3, ((), (1,)), ((), (0,)))), True),
+            ((second, third, (3, 1, ((), (0,)), ((), (2,)))), True),
             ((second, (2, 1, ((), (1,)), ((), (2,))), (2, 3, ((), (1,)), ((), (0,)))), True),
             ((first, (2, 3, ((), (1,)), ((), (0,))), (3, 2, ((), (0,)), ((), (1,)))), False),
             ((first, (2, 2, ((), (1,)), ((), (1,))), third), False),
-            ((first, second, (4, 3, ((), (1,)), ((), (0,)))), False), ((first, second, (-1, 3, ((), (1,)), ((), (0,)))), False),
-            (((0, 1, ((), (3,)), ((), (2,))), second, third), True), (((0, 1, ((), (3,)), ((), (0,))), second, third), False),
+            ((first, second, (4, 3, ((), (1,)), ((), (0,)))), False),
+            ((first, second, (-1, 3, ((), (1,)), ((), (0,)))), False),
+            (((0, 1, ((), (3,)), ((), (2,))), second, third), True),
+            (((0, 1, ((), (3,)), ((), (0,))), second, third), False),
         ]:
             told = ("whole", ((0, tree),))
             self.assertIs(is_hanging(BLOCK, 0, told), right, tree)
@@ -309,16 +317,21 @@ class IsHangingTest(Base):
     def test_of_another_form(self):
         good = hangs(DUST, 0)
         for bad in [
-            None, 0, "whole", (), ("whole",), ("whole", None), ("whole", []), ("whole", (), ()), ["whole", ()], ("Whole", ()),
+            None, 0, "whole", (), ("whole",), ("whole", None), ("whole", []), ("whole", (), ()), ["whole", ()],
+            ("Whole", ()),
             ("parted",), ("parted", ()), ("parted", 0, (0,)), good + (0,), list(good), ("whole",) + good[1:],
-            ("whole", (0,)), ("whole", ((0,),)), ("whole", ((0, (), ()),)), ("whole", ((True, ()),)), ("whole", ((0, []),)),
+            ("whole", (0,)), ("whole", ((0,),)), ("whole", ((0, (), ()),)), ("whole", ((True, ()),)),
+            ("whole", ((0, []),)),
             ("whole", ((0, ((0, 1, ((), (0,))),)),)), ("whole", ((0, ((0, 1, ((), (0,)), ((), (0,), ())),)),)),
-            ("whole", ((0, ((0, False, ((), (0,)), ((), (0,))),)),)), ("whole", ((0, ((0, 1, ((), [0]), ((), (0,))),)),)),
+            ("whole", ((0, ((0, False, ((), (0,)), ((), (0,))),)),)),
+            ("whole", ((0, ((0, 1, ((), [0]), ((), (0,))),)),)),
             ("parted", True, (0,), good[3]), ("parted", 0, [0], good[3]), ("parted", 0, (False,), good[3]),
             ("parted", 0, (0,), list(good[3])), ("parted", 0, (0,), ((0, 1),)), ("parted", 0, (0,), ((0, 1, None),)),
-            ("parted", 0, (0,), ((0, True, ()),)), ("parted", 0, (0,), ((0, 1, (0,)),)), ("parted", 0, (0,), ((0, 1, (((0, 0, (2, 0)),),)),)),
+            ("parted", 0, (0,), ((0, True, ()),)), ("parted", 0, (0,), ((0, 1, (0,)),)),
+            ("parted", 0, (0,), ((0, 1, (((0, 0, (2, 0)),),)),)),
             ("parted", 0, (0,), ((0, 1, (((0, 0, (2, 0)), None),)),)), ("parted", 0, (0,), ((0, 1, ("apart", ())),)),
-            ("parted", None, (0,), good[3]), ("parted", 0, 0, good[3]), ("parted", 0, (0,), 0), (0, ()), (None,) + good[1:],
+            ("parted", None, (0,), good[3]), ("parted", 0, 0, good[3]), ("parted", 0, (0,), 0), (0, ()),
+            (None,) + good[1:],
         ]:
             self.assertFalse(fits(FORM, bad))
             self.raises_both_ways(InvalidPaper, bad, is_hanging, NAMES + ("told",), (DUST, 0, bad))

@@ -1,8 +1,10 @@
 """rates.py: point [11], the rates of counts, which of two is greater, and the errors of the section."""
 
+import random
 import unittest
 from fractions import Fraction
 from math import gcd
+from unittest.mock import patch
 
 from samples import BLOCK, DUST, FOUR, NO_KITS, NO_STATES, SIDE, Base, fraction
 from selfkits import rates
@@ -11,7 +13,7 @@ from selfkits.errors import InvalidKit, InvalidState, NoSquares
 from selfkits.kits import is_kit, joined, powered
 from selfkits.makes import moved, side_by_side, turned, turns_of
 from selfkits.rates import faster, fills, rate
-from selfkits.roots import each_once, greatest_root, narrower
+from selfkits.roots import common, each_once, greatest_root, is_root, narrower, quotient, worth
 from selfkits.squares import square_kit
 from selfkits.tables import determinant
 from tiles import CARPET, CROSSED, GASKET, GOLDEN, NO_SQUARES, SMALL_KITS, TABLES, drawn_kits, few_kinds, made_kits
@@ -75,6 +77,15 @@ def roots_above(row, x):
         return sum(one != other for one, other in zip(signs, signs[1:]))
 
     return changes([value(part, x) for part in chain]) - changes([part[0] for part in chain])
+
+
+def times_of(one, other):
+    """The product of two sums of powers."""
+    found = [0] * (len(one) + len(other) - 1)
+    for at, part in enumerate(one):
+        for n, more in enumerate(other):
+            found[at + n] += part * more
+    return tuple(found)
 
 
 def told_sum(kit, state):
@@ -215,6 +226,59 @@ class FasterTest(Base):
         self.assertTrue(low ** 2 < 2 < high ** 2)
         low, high = Fraction(second[0], second[2]), Fraction(second[1], second[2])
         self.assertTrue(low ** 2 < 10 ** 40 + 1 <= high ** 2)
+
+    def test_small_primes(self):
+        told = [rate(kit, state) for kit, state in CASES]
+        pairs = [(CASES[at], CASES[at + 1]) for at in range(0, 60, 3)]
+        asked = [faster(*one, *other) for one, other in pairs]
+        for row in ([3, 5, 7, 11, 13, 101, (1 << 61) - 1], [5, 3, 97, (1 << 89) - 1]):
+            with patch("selfkits.roots.primes", lambda: row):
+                self.assertEqual([rate(kit, state) for kit, state in CASES], told)
+                self.assertEqual([faster(*one, *other) for one, other in pairs], asked)
+
+    def test_the_greatest_of_drawn_roots(self):
+        draws = random.Random(33)
+        for _ in range(300):
+            roots = sorted({draws.randint(-9, 30) for _ in range(draws.randrange(5))} | {draws.randint(1, 30)})
+            shape = (1,)
+            for root in roots:
+                shape = times_of(shape, (1, -root))
+            # Pairs of roots that are not real lie anywhere, beyond the greatest one, too.
+            for middle in sorted({draws.randint(-9, 40) for _ in range(draws.randrange(3))}):
+                shape = times_of(shape, (1, -2 * middle, middle * middle + draws.randint(1, 3)))
+            left, right, bottom = span = greatest_root(shape, 30)
+            for _ in range(20):
+                left, right, bottom = span = narrower(shape, span)
+            self.assertEqual((left, right), (roots[-1] * bottom, roots[-1] * bottom))
+            for root in roots:
+                self.assertIs(is_root((1, -root), span), root == roots[-1])
+
+    def test_roots_of_divisors(self):
+        # The greatest root is that of 2, or of 3; divisors have others at the ends of where it lies.
+        for number, other in [(2, 3), (3, 2)]:
+            shape = times_of(times_of((1, 0, -number), (1, -1)), (1, 5, 7))
+            span = greatest_root(shape, 9)
+            self.assertIs(is_root((1, 0, -number), span), True)
+            self.assertIs(is_root((1, -1), span), False)
+            self.assertIs(is_root((1, 5, 7), span), False)
+            self.assertIs(is_root(times_of((1, 0, -number), (1, -1)), span), True)
+            for _ in range(30):
+                span = narrower(shape, span)
+            self.assertIs(is_root((1, 0, -number), span), True)
+            self.assertIs(is_root((1, 0, -other), span), False)
+
+    def test_quotients(self):
+        for one, other in [((1, 2, 3), (1, 1)), ((4, 0, -1), (1, -2)), ((1,), (1,)), ((2, 5), (1, 3)),
+            ((1, -1, 1, -1), (1, 0, 1))]:
+            product = times_of(one, other)
+            self.assertEqual(quotient(product, other), one)
+            self.assertIsNone(quotient(product[:-1] + (product[-1] + 1,), other) if len(other) > 1 else None)
+            if len(other) > 2:
+                self.assertIsNone(quotient(product[:-2] + (product[-2] - 1, product[-1]), other))
+        self.assertIsNone(quotient((1, 0), (1, 0, 0)))
+        self.assertEqual(common((1, -3, 2), (2, -3)), (1,))
+        self.assertEqual(common((1, -6, 11, -6), (3, -12, 9)), (1, -4, 3))
+        self.assertEqual([worth((1, -3, 2), 3, 2), worth((1, 0), 5, 7), worth((4,), 5, 7)], [-1, 5, 4])
 
     def test_roots_that_come_again(self):
         self.assertEqual(each_once((1, -3, 3, -1)), (1, -1))

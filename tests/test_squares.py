@@ -54,7 +54,8 @@ class SquareKitTest(Base):
                 self.assertFalse(has_point(kit, 0, point))
         for n in (2, 3):
             self.assertEqual(square_kit(power(TWO, n)), powered(BLOCK, n))
-            self.assertEqual(same(powered(square_kit(((0, 2), (3, 0))), 2), 0, square_kit(((6, 0), (0, 6))), 0, (0, 0))[0],
+            self.assertEqual(same(powered(square_kit(((0, 2), (3, 0))), 2), 0, square_kit(((6, 0), (0, 6))), 0,
+                (0, 0))[0],
                              "same")
 
     def test_no_squares(self):
@@ -199,7 +200,8 @@ class KindsTest(Base):
             ((2, (x, y)),) for x in (0, 1) for y in (0, 1)
         ])
         self.assertEqual(len(kinds(BLOCK, 0)), 30)
-        self.assertEqual(kinds(DUST, 0), sorted(set(told_lots(DUST, 0, 0).values()) | set(told_lots(DUST, 0, 1).values())))
+        self.assertEqual(kinds(DUST, 0),
+            sorted(set(told_lots(DUST, 0, 0).values()) | set(told_lots(DUST, 0, 1).values())))
 
     def test_as_the_document_words_it(self):
         for kit, state in SMALL_KITS + made_kits():
