@@ -41,26 +41,33 @@ def sum_of(parts):
 
 
 def _ways_of(kit, state):
-    """Return (starts, ways): the numbers of the lots at the zoom 0, and for each lot those of its parts."""
+    """Return (starts, ways): the numbers of the lots at the zoom 0, and for each lot a list of (number, how often).
+
+    These are the numbers of its parts' lots, which are far fewer than parts.
+    """
     lots = Lots(kit)
     graph = lots.graph(state)
     places = {lot: at for at, lot in enumerate(graph)}
-    return ([places[lot] for lot in lots.starts(state)], [[places[later] for later, _ in graph[lot]] for lot in graph])
+    ways = []
+    for lot in graph:
+        often = {}
+        for later, _ in graph[lot]:
+            often[places[later]] = often.get(places[later], 0) + 1
+        ways.append([(at, often[at]) for at in often])
+    return ([places[lot] for lot in lots.starts(state)], ways)
 
 
 def _counts(told, many):
     """Return the list of so many counts, from the zoom 0 on."""
     starts, ways = told
-    numbers = [0 for _ in ways]
-    for at in starts:
-        numbers[at] += 1
+    numbers = [starts.count(at) for at in range(len(ways))]
     found = []
     for _ in range(many):
         found.append(sum(numbers))
-        later = [0 for _ in ways]
+        later = [0] * len(ways)
         for at, number in enumerate(numbers):
-            for there in ways[at]:
-                later[there] += number
+            for there, often in ways[at]:
+                later[there] += often * number
         numbers = later
     return found
 
