@@ -4,12 +4,12 @@ import random
 import re
 import unittest
 from collections import Counter
+from fractions import Fraction
 from math import gcd
 
 from samples import (
-    BLOCK, CHAIN, DRAGON, DUST, FOUR, NO_KITS, SIDE, SKEWED, STILL, TURN, TWO, Base, both_reaches, has_point,
-    told_graph,
-    without_end,
+    BLOCK, CHAIN, DRAGON, DUST, FOUR, NO_KITS, SIDE, STILL, TURN, TWO, Base, both_reaches, has_point,
+    told_graph, without_end,
 )
 from selfkits import consoles
 from selfkits.consoles import Console
@@ -109,7 +109,6 @@ def told_answer(kits, word, rest, given, numbers):
         return yes(start in without_end(told_graph(kit, given[1], start)))
     if word == "in":
         check_state(kit, numbers[0])
-        from fractions import Fraction
         return yes(has_point(kit, numbers[0], tuple(Fraction(part) for part in rest[2:])))
     if word == "whole":
         check_state(kit, numbers[0])

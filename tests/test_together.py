@@ -21,7 +21,7 @@ from selfkits.squares import kinds, lot_of, shown, shown_squares, square_kit
 from selfkits.tables import axes, determinant, power, times, undone
 from selfkits.texts import show_address, show_kit, show_number, show_point, show_rows
 from selfkits.turns import is_kept, keeps
-from tiles import CROSSED, GASKET, GOLDEN, SMALL_KITS, STEPPED, drawn_kits, few_kinds, made_kits
+from tiles import GASKET, GOLDEN, SMALL_KITS, STEPPED, drawn_kits, few_kinds, made_kits
 
 CASES = [(kit, state) for kit, state in SMALL_KITS if kit[0] != STEPPED[0]]
 CASES += [(DRAGON, 0), (STILL, 0)] + made_kits()[:5] + [(kit, 0) for kit in drawn_kits(71, 20, far=1)]

@@ -6,9 +6,10 @@ from functools import lru_cache
 from itertools import product as all_of
 
 from samples import (
-    BLOCK, DRAGON, DUST, FOUR, SIDE, SKEWED, STILL, TURN, TWO, both_reaches, taken, told_nexts, told_walks, without_end,
+    BLOCK, DRAGON, DUST, FOUR, SIDE, SKEWED, STILL, TWO, both_reaches, taken, told_nexts, without_end,
 )
 from selfkits.kits import joined, met, powered
+from selfkits.lots import Lots
 from selfkits.makes import side_by_side
 from selfkits.tables import axes, is_growing
 
@@ -83,15 +84,20 @@ def told_touching(kit):
     return [sorted(offset for _, l, offset in lasts if l == at) for at in range(len(kit[1]))]
 
 
+def led_on_by(kit, row):
+    """What some (state, offset) become along one copy more."""
+    later = set()
+    for at, offset in row:
+        x, y = taken(kit[0], offset)
+        later |= {(led, (x + p, y + q)) for (p, q), led in kit[1][at]}
+    return later
+
+
 def told_ends(kit, state, zoom):
     """All (state, offset) to which walks of so many copies lead."""
     row = {(state, (0, 0))}
     for _ in range(zoom):
-        later = set()
-        for at, offset in row:
-            x, y = taken(kit[0], offset)
-            later |= {(led, (x + p, y + q)) for (p, q), led in kit[1][at]}
-        row = later
+        row = led_on_by(kit, row)
     return row
 
 
@@ -117,12 +123,8 @@ def told_far_lots(kit, state, zoom, square, squares):
     far = both_reaches(kit, kit) + 10
     row = {(state, (0, 0))}
     for n in range(zoom):
-        later = set()
-        for at, offset in row:
-            x, y = taken(kit[0], offset)
-            later |= {(led, (x + p, y + q)) for (p, q), led in kit[1][at]}
         left, low = middles[zoom - 1 - n]
-        row = {(led, (x, y)) for led, (x, y) in later if abs(x - left) <= far and abs(y - low) <= far}
+        row = {(led, (x, y)) for led, (x, y) in led_on_by(kit, row) if abs(x - left) <= far and abs(y - low) <= far}
     touching = [set(offsets) for offsets in told_touching(kit)]
     found = []
     for x, y in squares:
@@ -211,7 +213,6 @@ def solved(lines):
 
 def few_kinds(kit, state, most):
     """Whether there are at most so many kinds, by the program's own lots."""
-    from selfkits.lots import Lots
     lots = Lots(kit)
     row = lots.starts(state)
     seen = set(row)
